@@ -1,0 +1,1 @@
+"""How the panes of a tiled desk lie to one another."""

@@ -1,0 +1,33 @@
+"""Checks of arguments that several modules share."""
+
+from paneplans.errors import InvalidPane, InvalidWord
+
+
+def is_number(thing):
+    """Tell whether any object is an integer; booleans are none."""
+    return isinstance(thing, int) and not isinstance(thing, bool)
+
+
+def is_pane_index(thing, many):
+    """Tell whether any object is the index of one of so many panes."""
+    return is_number(thing) and 0 <= thing < many
+
+
+def check_pane(pane, many):
+    """Raise InvalidPane unless pane is the index of one of so many panes."""
+    if not is_pane_index(pane, many):
+        raise InvalidPane("there is no pane of this number")
+
+
+def check_two_panes(first, second, many):
+    """Raise InvalidPane unless these are two different ones of so many panes."""
+    check_pane(first, many)
+    check_pane(second, many)
+    if first == second:
+        raise InvalidPane("two different panes are needed")
+
+
+def check_word(word, words):
+    """Raise InvalidWord unless word is one of the words."""
+    if word not in words:
+        raise InvalidWord("this word cannot stand here")
