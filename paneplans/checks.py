@@ -1,6 +1,6 @@
 """Checks of arguments that several modules share."""
 
-from paneplans.errors import InvalidPane, InvalidWord
+from paneplans.errors import InvalidNumber, InvalidPane, InvalidWord
 
 
 def is_number(thing):
@@ -31,3 +31,9 @@ def check_word(word, words):
     """Raise InvalidWord unless word is one of the words."""
     if word not in words:
         raise InvalidWord("this word cannot stand here")
+
+
+def check_number(number, least, most):
+    """Raise InvalidNumber unless this is an integer from least to most."""
+    if not is_number(number) or not least <= number <= most:
+        raise InvalidNumber("this number is out of its range")
