@@ -5,7 +5,7 @@ from paneplans.errors import InvalidNumber, InvalidPane, InvalidWord
 
 def is_number(thing):
     """Tell whether any object is an integer; booleans are none."""
-    return isinstance(thing, int) and not isinstance(thing, bool)
+    return type(thing) is int
 
 
 def is_pane_index(thing, many):

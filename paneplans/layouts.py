@@ -14,8 +14,7 @@ SIDES = ("left", "top", "right", "bottom")
 
 def is_layout(thing):
     """Tell whether any object is a layout."""
-    return (is_list_of_items(thing) and find_bad_item(thing) is None
-            and fills_desk(thing) and not has_meeting(thing))
+    return is_list_of_items(thing) and all([is_pane(item) for item in thing]) and tiles_desk(thing)
 
 
 def desk_of(layout):
@@ -33,8 +32,11 @@ def segments_of(layout):
 def panes_along(layout, segment):
     """Return the panes above or left of a segment, and those below or right of it."""
     check_layout(layout)
-    check_segment(layout, segment)
-    return find_panes_along(layout, segment)
+    if is_line(segment):
+        for found, ahead, behind in find_all_sides(layout):
+            if found == segment:
+                return ahead, behind
+    raise InvalidSegment("this is no segment of the layout")
 
 
 def segment_at(layout, pane, side):
@@ -43,10 +45,8 @@ def segment_at(layout, pane, side):
     check_pane(pane, len(layout))
     check_word(side, SIDES)
     kind = "upright" if side in ("left", "right") else "level"
-    (start, end), (first, last) = spans(layout[pane], kind)
-    place = start if side in ("left", "top") else end
-    for segment in find_segments(layout):
-        if segment[:2] == (kind, place) and segment[2] <= first and last <= segment[3]:
+    for segment, ahead, behind in find_sides(layout, kind):
+        if pane in (behind if side in ("left", "top") else ahead):
             return segment
     return None
 
@@ -54,9 +54,10 @@ def segment_at(layout, pane, side):
 def touching_pairs(layout):
     """Return the pairs of panes that touch, ascending."""
     check_layout(layout)
-    indices = range(len(layout))
-    return [(first, second) for first in indices for second in indices
-            if first < second and touch(layout[first], layout[second])]
+    pairs = []
+    for segment, ahead, behind in find_all_sides(layout):
+        pairs.extend(find_pairs_at(layout, segment[0], ahead, behind))
+    return sorted([(min(pair), max(pair)) for pair in pairs])
 
 
 def check_layout(layout):
@@ -65,12 +66,6 @@ def check_layout(layout):
         return
     bad = find_bad_item(layout) if is_list_of_items(layout) else None
     raise InvalidLayout(bad)
-
-
-def check_segment(layout, segment):
-    """Raise InvalidSegment unless this is a segment of the layout."""
-    if not is_line(segment) or segment not in find_segments(layout):
-        raise InvalidSegment("this is no segment of the layout")
 
 
 def is_list_of_items(thing):
@@ -82,16 +77,34 @@ def is_pane(thing):
     """Tell whether any object is the tuple of the corners of a pane."""
     if not isinstance(thing, tuple) or len(thing) != 4:
         return False
-    if not all(is_number(corner) for corner in thing):
-        return False
     x0, y0, x1, y1 = thing
-    return 0 <= x0 < x1 and 0 <= y0 < y1
+    # As in is_number, but without its calls: all panes of all layouts come here.
+    return (type(x0) is int and type(y0) is int and type(x1) is int and type(y1) is int
+            and 0 <= x0 < x1 and 0 <= y0 < y1)
 
 
 def is_line(thing):
     """Tell whether any object is a tuple with integers where a segment has them."""
     # True == 1 in Python, so comparing with the segments would not be enough.
     return isinstance(thing, tuple) and all(is_number(place) for place in thing[1:])
+
+
+def tiles_desk(panes):
+    """Tell whether panes tile a desk from (0, 0) on and no four of them meet at a point.
+
+    If all top left and bottom right corners count as 1 and the others as -1,
+    then panes tile the desk if and only if the sums at all points are those
+    of one pane of its size. A point with two of the same kind is a meeting.
+    """
+    width, height = find_desk(panes)
+    falling = [(x0, y0) for x0, y0, _, _ in panes] + [(x1, y1) for _, _, x1, y1 in panes]
+    rising = [(x1, y0) for _, y0, x1, _ in panes] + [(x0, y1) for x0, _, _, y1 in panes]
+    # With the corners of the desk on the other side all sums are 0.
+    falling.extend([(width, 0), (0, height)])
+    rising.extend([(0, 0), (width, height)])
+    points = set(falling)
+    others = set(rising)
+    return len(points) == len(falling) and points == others
 
 
 def find_bad_item(items):
@@ -109,84 +122,64 @@ def overlap(corners, others):
     return x0 < right and left < x1 and y0 < bottom and top < y1
 
 
-def touch(corners, others):
-    """Tell whether the sides of two panes that do not overlap share a stretch."""
-    x0, y0, x1, y1 = corners
-    left, top, right, bottom = others
-    width = min(x1, right) - max(x0, left)
-    height = min(y1, bottom) - max(y0, top)
-    return (width == 0 and height > 0) or (height == 0 and width > 0)
-
-
-def fills_desk(panes):
-    """Tell whether panes that do not overlap leave no gap on their desk."""
-    width, height = find_desk(panes)
-    return sum((x1 - x0) * (y1 - y0) for x0, y0, x1, y1 in panes) == width * height
-
-
-def has_meeting(panes):
-    """Tell whether some point is a corner of four panes."""
-    counts = {}
-    for x0, y0, x1, y1 in panes:
-        for corner in ((x0, y0), (x1, y0), (x0, y1), (x1, y1)):
-            counts[corner] = counts.get(corner, 0) + 1
-    return max(counts.values()) == 4
-
-
 def find_desk(panes):
     """Return the width and the height of the desk from (0, 0) to the farthest sides."""
     return max([corners[2] for corners in panes]), max([corners[3] for corners in panes])
 
 
-def spans(corners, kind):
-    """Return from where to where a pane reaches across lines of a kind, and along them."""
-    x0, y0, x1, y1 = corners
-    if kind == "upright":
-        return (x0, x1), (y0, y1)
-    return (y0, y1), (x0, x1)
-
-
 def find_segments(layout):
     """Return the segments, ascending."""
-    width, height = find_desk(layout)
-    segments = []
-    for kind, border in (("level", height), ("upright", width)):
-        stretches = {}
-        # Each segment has panes on both sides, so the sides on one of them make it whole.
-        for corners in layout:
-            (_, end), along = spans(corners, kind)
-            if end < border:
-                stretches.setdefault(end, []).append(along)
-        for place, lines in stretches.items():
-            segments.extend([(kind, place, first, last) for first, last in join_stretches(lines)])
-    return sorted(segments)
+    return [segment for segment, _, _ in find_all_sides(layout)]
+
+
+def find_all_sides(layout):
+    """Return for each segment, ascending, (segment, ahead, behind): with the panes along its two sides."""
+    return find_sides(layout, "level") + find_sides(layout, "upright")
+
+
+def find_sides(layout, kind):
+    """Return for each segment of a kind, ascending, (segment, ahead, behind)."""
+    # With x and y exchanged level segments are found as upright ones are.
+    corners = layout if kind == "upright" else [(y0, x0, y1, x1) for x0, y0, x1, y1 in layout]
+    ahead = join_stretches([(x1, y0, y1, pane) for pane, (_, y0, x1, y1) in enumerate(corners)])
+    behind = join_stretches([(x0, y0, y1, pane) for pane, (x0, y0, _, y1) in enumerate(corners)])
+    sides = []
+    for start, panes in ahead.items():
+        # Only a border has no panes behind it.
+        if start in behind:
+            place, first = start
+            last = corners[panes[-1]][3]
+            sides.append(((kind, place, first, last), panes, behind[start]))
+    return sides
 
 
 def join_stretches(stretches):
-    """Join the stretches of one line that meet at their ends.
+    """Return a dict, ascending: for each (place, first) where a line begins, the panes along it.
 
-    Where two of them meet, no line of the other kind goes on, as four panes
-    would meet there.
+    Each stretch is a tuple (place, first, last, pane). Where two of them meet,
+    no line of the other kind goes on, as four panes would meet there.
     """
-    joined = []
-    for first, last in sorted(stretches):
-        if joined and joined[-1][1] == first:
-            joined[-1] = (joined[-1][0], last)
+    lines = {}
+    start = end = None
+    for place, first, last, pane in sorted(stretches):
+        if (place, first) != end:
+            start = (place, first)
+            lines[start] = []
+        lines[start].append(pane)
+        end = (place, last)
+    return lines
+
+
+def find_pairs_at(layout, kind, ahead, behind):
+    """Return the pairs of panes that touch along a segment."""
+    side = 3 if kind == "upright" else 2
+    pairs = [(ahead[0], behind[0])]
+    first = second = 0
+    # Two panes end at one place only where the segment ends, too.
+    while first + 1 < len(ahead) or second + 1 < len(behind):
+        if layout[ahead[first]][side] < layout[behind[second]][side]:
+            first += 1
         else:
-            joined.append((first, last))
-    return joined
-
-
-def find_panes_along(layout, segment):
-    """Return the panes above or left of a segment, and those below or right of it."""
-    kind, place, low, high = segment
-    ahead = []
-    behind = []
-    for pane, corners in enumerate(layout):
-        (start, end), (first, last) = spans(corners, kind)
-        if low <= first and last <= high:
-            if end == place:
-                ahead.append((first, pane))
-            elif start == place:
-                behind.append((first, pane))
-    return [item[1] for item in sorted(ahead)], [item[1] for item in sorted(behind)]
+            second += 1
+        pairs.append((ahead[first], behind[second]))
+    return pairs

@@ -70,6 +70,17 @@ class IsLayoutTest(unittest.TestCase):
             self.assertIs(is_layout(panes), not four_meet(panes), repr(panes))
             self.assertIs(is_layout(panes[1:]), False, repr(panes))
 
+    def test_all_short_lists_of_panes(self):
+        # What covers a square twice and leaves another one free must not make up for it.
+        spans = [(0, 1), (0, 2), (1, 2)]
+        panes = [(x0, y0, x1, y1) for (x0, x1), (y0, y1) in itertools.product(spans, repeat=2)]
+        for many in range(1, 6):
+            for things in itertools.product(panes, repeat=many):
+                width, height = (max(pane[side] for pane in things) for side in (2, 3))
+                squares = sorted((x, y) for a, b, c, d in things for x in range(a, c) for y in range(b, d))
+                whole = squares == list(itertools.product(range(width), range(height)))
+                self.assertIs(is_layout(list(things)), whole and many < 4, repr(things))
+
 
 class WrongLayoutTest(unittest.TestCase):
     def test_each_function_rejects_wrong_layouts(self):
