@@ -10,12 +10,52 @@ from paneplans.counts import (
     count_borders, count_cut, count_plans, count_touching, nth_plan, plan_index, ways_to_touch)
 from paneplans.errors import InvalidIndex, InvalidNumber
 from paneplans.layouts import touching_pairs
-from paneplans.plans import borders_of, is_plan
+from paneplans.plans import borders_of, drawn_layout, is_plan, segments_in
 from paneplans.relations import falling_row, plan_of
 from rows import P_PLAN, PLANS, all_codes, all_plans, assert_rejects_plans, mixed_plan, slow_four
 
 PLAN_COUNTS = [1, 2, 6, 22, 92, 422, 2074]
 TOUCHING_COUNTS = [1, 2, 6, 24, 116, 642, 3938]
+
+
+def mixed_ends(ahead, behind):
+    """Return all sequences in which two lists can be mixed."""
+    if not ahead or not behind:
+        return [ahead + behind]
+    return ([ahead[:1] + rest for rest in mixed_ends(ahead[1:], behind)]
+            + [behind[:1] + rest for rest in mixed_ends(ahead, behind[1:])])
+
+
+def placed(pairs, many):
+    """Return for each of so many lines the least place so that the first line of each pair comes first."""
+    places = [0] * many
+    for _ in range(many):
+        for one, other in pairs:
+            places[other] = max(places[other], places[one] + 1)
+    return places
+
+
+def layouts_of(plan):
+    """Return layouts with this plan, one for each sequence of ends along all segments."""
+    drawn = drawn_layout(plan)
+    many = len(plan)
+    choices = []
+    for kind, ahead, behind in segments_in(plan):
+        # The ends are named by their places in the drawn layout.
+        axis = 1 if kind == "upright" else 0
+        ends = [sorted(drawn[pane][axis + 2] for pane in side)[:-1] for side in (ahead, behind)]
+        choices.append([(axis, sequence) for sequence in mixed_ends(*ends)])
+    found = []
+    for choice in itertools.product(*choices):
+        lines = []
+        for axis in (0, 1):
+            pairs = [(corners[axis], corners[axis + 2]) for corners in drawn]
+            for along, sequence in choice:
+                pairs += itertools.pairwise(sequence) if along == axis else []
+            # Lines of the other kind have these numbers, too; they are at no pane's sides here.
+            lines.append(placed(pairs, many + 1))
+        found.append([(lines[0][x0], lines[1][y0], lines[0][x1], lines[1][y1]) for x0, y0, x1, y1 in drawn])
+    return found
 
 
 class InterfaceTest(unittest.TestCase):
@@ -210,6 +250,14 @@ class WaysToTouchTest(unittest.TestCase):
         for number in range(1, 6):
             for plan in all_plans(number):
                 self.assertEqual(ways_to_touch(plan), len(found[tuple(plan)]), repr(plan))
+
+    def test_each_sequence_of_ends_can_be_had(self):
+        for plan in all_plans(6) + all_plans(7) + [mixed_plan(12, seed) for seed in range(40)]:
+            layouts = layouts_of(plan)
+            for layout in layouts:
+                self.assertEqual([plan_of(layout), falling_row(layout)], [plan, list(range(len(plan)))])
+            self.assertEqual(len({tuple(touching_pairs(layout)) for layout in layouts}), len(layouts))
+            self.assertEqual(ways_to_touch(plan), len(layouts), repr(plan))
 
     def test_wrong_plans(self):
         assert_rejects_plans(self, ways_to_touch)
