@@ -2,6 +2,9 @@
 
 from paneplans.errors import InvalidNumber, InvalidPane, InvalidWord
 
+# How a pane lies to the next one where one of the two kinds is asked for.
+KINDS = ("left", "above")
+
 
 def is_number(thing):
     """Tell whether any object is an integer; booleans are none."""

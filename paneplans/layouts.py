@@ -6,7 +6,7 @@ named find_.., rely on a valid layout.
 """
 
 from paneplans.checks import check_pane, check_word, is_number
-from paneplans.errors import InvalidLayout, InvalidSegment
+from paneplans.errors import InvalidLayout, InvalidSegment, Meeting
 
 MOST_PANES = 60
 SIDES = ("left", "top", "right", "bottom")
@@ -32,11 +32,7 @@ def segments_of(layout):
 def panes_along(layout, segment):
     """Return the panes above or left of a segment, and those below or right of it."""
     check_layout(layout)
-    if is_line(segment):
-        for found, ahead, behind in find_all_sides(layout):
-            if found == segment:
-                return ahead, behind
-    raise InvalidSegment("this is no segment of the layout")
+    return find_along(layout, segment)
 
 
 def segment_at(layout, pane, side):
@@ -44,20 +40,14 @@ def segment_at(layout, pane, side):
     check_layout(layout)
     check_pane(pane, len(layout))
     check_word(side, SIDES)
-    kind = "upright" if side in ("left", "right") else "level"
-    for segment, ahead, behind in find_sides(layout, kind):
-        if pane in (behind if side in ("left", "top") else ahead):
-            return segment
-    return None
+    line = find_line_at(layout, pane, side)
+    return None if line is None else line[0]
 
 
 def touching_pairs(layout):
     """Return the pairs of panes that touch, ascending."""
     check_layout(layout)
-    pairs = []
-    for segment, ahead, behind in find_all_sides(layout):
-        pairs.extend(find_pairs_at(layout, segment[0], ahead, behind))
-    return sorted([(min(pair), max(pair)) for pair in pairs])
+    return find_touching(layout)
 
 
 def check_layout(layout):
@@ -66,6 +56,18 @@ def check_layout(layout):
         return
     bad = find_bad_item(layout) if is_list_of_items(layout) else None
     raise InvalidLayout(bad)
+
+
+def check_no_meeting(panes):
+    """Raise Meeting with the least point at which four of these panes meet, if there is one."""
+    counts = {}
+    for x0, y0, x1, y1 in panes:
+        for point in ((x0, y0), (x1, y0), (x0, y1), (x1, y1)):
+            counts[point] = counts.get(point, 0) + 1
+    met = [point for point, many in counts.items() if many == 4]
+    if met:
+        x, y = min(met)
+        raise Meeting(x, y)
 
 
 def is_list_of_items(thing):
@@ -153,6 +155,33 @@ def find_sides(layout, kind):
     return sides
 
 
+def find_along(layout, segment):
+    """Return the panes along the two sides of a segment; any object that is none raises InvalidSegment."""
+    if is_line(segment):
+        for found, ahead, behind in find_all_sides(layout):
+            if found == segment:
+                return ahead, behind
+    raise InvalidSegment("this is no segment of the layout")
+
+
+def find_line_at(layout, pane, side):
+    """Return (segment, own, others) at a side of a pane, None at the border.
+
+    own are the panes along the segment on the pane's side of it, others those on the other side.
+    """
+    kind = "upright" if side in ("left", "right") else "level"
+    for segment, ahead, behind in find_sides(layout, kind):
+        own, others = (behind, ahead) if side in ("left", "top") else (ahead, behind)
+        if pane in own:
+            return segment, own, others
+    return None
+
+
+def move_side(corners, side, place):
+    """Return the corners of a pane with one of its sides, numbered as in SIDES, at another place."""
+    return corners[:side] + (place,) + corners[side + 1:]
+
+
 def join_stretches(stretches):
     """Return a dict, ascending: for each (place, first) where a line begins, the panes along it.
 
@@ -168,6 +197,14 @@ def join_stretches(stretches):
         lines[start].append(pane)
         end = (place, last)
     return lines
+
+
+def find_touching(layout):
+    """Return the pairs of panes that touch, ascending."""
+    pairs = []
+    for segment, ahead, behind in find_all_sides(layout):
+        pairs.extend(find_pairs_at(layout, segment[0], ahead, behind))
+    return sorted([(min(pair), max(pair)) for pair in pairs])
 
 
 def find_pairs_at(layout, kind, ahead, behind):

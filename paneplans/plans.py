@@ -144,6 +144,11 @@ def find_panes_by_sides(plan):
     return [group_panes(places) for places in find_sides(plan)]
 
 
+def find_without(plan, pane):
+    """Return a row without a pane, later panes renamed to one less."""
+    return [other if other < pane else other - 1 for other in plan if other != pane]
+
+
 def group_panes(places):
     """Return for each place from 0 to the number of panes the panes that have it, ascending."""
     groups = [[] for _ in range(len(places) + 1)]

@@ -8,7 +8,7 @@ from paneplans.codes import code_of, plan_of_code, pushed_plan, without_last
 from paneplans.errors import InvalidCode, InvalidNumber, InvalidPlan, Meeting
 from paneplans.plans import borders_of, is_plan
 from paneplans.relations import plan_of
-from rows import NO_ROWS, P_CODE, P_PLAN, PLANS, all_codes, all_plans, assert_rejects_plans, mixed_plan, nested
+from rows import P_CODE, P_PLAN, PLANS, all_codes, all_plans, assert_rejects_plans, mixed_plan, nested
 
 # What is no list of at most 59 integers, also where numbers cannot stand.
 NO_CODES = [thing for thing in NO_LISTS] + [
