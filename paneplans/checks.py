@@ -36,7 +36,7 @@ def check_word(word, words):
         raise InvalidWord("this word cannot stand here")
 
 
-def check_number(number, least, most):
-    """Raise InvalidNumber unless this is an integer from least to most."""
-    if not is_number(number) or not least <= number <= most:
+def check_number(number, least, most=None):
+    """Raise InvalidNumber unless this is an integer from least to most, None for no end."""
+    if not is_number(number) or number < least or (most is not None and number > most):
         raise InvalidNumber("this number is out of its range")

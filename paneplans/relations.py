@@ -58,8 +58,7 @@ def lie_alike(layout, other):
     """Tell whether two layouts have as many panes and each two of them lie the same way."""
     check_layout(layout)
     check_layout(other)
-    # A way tells the sequence of two panes in both rows, and both sequences tell the way.
-    return find_rows(layout) == find_rows(other)
+    return is_alike(layout, other)
 
 
 def same_plan(layout, other):
@@ -67,6 +66,12 @@ def same_plan(layout, other):
     check_layout(layout)
     check_layout(other)
     return find_plan(layout) == find_plan(other)
+
+
+def is_alike(layout, other):
+    """Tell whether layouts lie alike."""
+    # A way tells the sequence of two panes in both rows, and both sequences tell the way.
+    return find_rows(layout) == find_rows(other)
 
 
 def find_possible_ways(layout, first, second):

@@ -6,6 +6,7 @@ import inspect
 from paneplans.errors import InvalidLayout, InvalidPane, Meeting
 
 P = [(0, 0, 2, 1), (2, 0, 3, 2), (1, 2, 3, 3), (0, 1, 1, 3), (1, 1, 2, 2)]
+P_SEGMENTS = [("level", 1, 0, 2), ("level", 2, 1, 3), ("upright", 1, 1, 3), ("upright", 2, 0, 2)]
 ONE = [(0, 0, 7, 4)]
 BESIDE = [(0, 0, 2, 3), (2, 0, 5, 3)]
 STACKED = [(0, 0, 3, 2), (0, 2, 3, 5)]
@@ -37,6 +38,11 @@ def tower(many):
 def scaled(layout, factor):
     """Return a layout with all corners that many times as far."""
     return [tuple(place * factor for place in corners) for corners in layout]
+
+
+def turned(layout):
+    """Return a layout with x and y exchanged."""
+    return [(y0, x0, y1, x1) for x0, y0, x1, y1 in layout]
 
 
 def grown(numbers):
@@ -97,6 +103,12 @@ def four_meet(panes):
     """Tell whether four panes have a corner at one point."""
     corners = [point for a, b, c, d in panes for point in ((a, b), (a, d), (c, b), (c, d))]
     return any(corners.count(point) == 4 for point in corners)
+
+
+def least_meeting(panes):
+    """Return the least point at which four panes have a corner, None for none."""
+    corners = [point for a, b, c, d in panes for point in ((a, b), (a, d), (c, b), (c, d))]
+    return min([point for point in corners if corners.count(point) == 4], default=None)
 
 
 def all_layouts(width, height, most):
@@ -245,6 +257,18 @@ WRONG_LAYOUTS = [(thing, None) for thing in NO_LISTS] + [(deep([], 1), 0)] + [
     ([(0, 0, 2, 1), (2, 0, 5, 1), (0, 1, 2, 3), (2, 1, 3, 3), (3, 1, 5, 3)], None),
     (scaled([(0, 0, 1, 1), (1, 0, 2, 1), (0, 1, 1, 2), (1, 1, 2, 2)], 10 ** 29), None),
 ] + [([thing], 0) for thing in NO_PANES] + [(BESIDE + [thing], 2) for thing in NO_PANES]
+
+# Whatever is no segment of P.
+NO_SEGMENTS = NO_LISTS + [
+    [], P, deep("level", 15), list(P_SEGMENTS[0]), P_SEGMENTS, (P_SEGMENTS[0],),
+    ("level", 1, 0), ("level", 1, 0, 2, 0), (1, 0, 2, "level"), ("level", 1, 2, 0),
+    ("level", 1, 0, 1), ("level", 1, 1, 2), ("level", 1, 0, 3), ("level", 2, 0, 2),
+    ("upright", 1, 0, 2), ("Level", 1, 0, 2), ("left", 1, 0, 2), ("", 1, 0, 2),
+    ("level", True, 0, 2), ("level", 1, False, 2), ("level", "1", 0, 2),
+    ("level", 1, 0, [2]), ("level", None, 0, 2), ("level", -1, 0, 2), ("level", 1, -1, 2),
+    ("level", BIG, 0, 2), ("level", 10 ** 60, 0, 2), (["level"], 1, 0, 2),
+    (None, 1, 0, 2), ({}, 1, 0, 2), (Meeting(1, 2), 1, 0, 2), ("upright", True, True, 3),
+    ("level", 0, 0, 3), ("level", 3, 0, 3), ("upright", 0, 0, 3), ("upright", 3, 0, 3)]
 
 # The named example, ordinary layouts, and the greatest ones.
 LAYOUTS = [P, ONE, BESIDE, STACKED, CUT, PARTED_UPRIGHT, PARTED_LEVEL, SHIFTED, SHIFTED_BACK, STRIP,

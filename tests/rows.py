@@ -117,6 +117,20 @@ WRONG_ROWS = [DOWN, UP, [1, 4, 0, 3, 2], [2, 4, 0, 3, 1], [4, 1, 3, 0, 2], [1, 3
               [4, 2, 0, 3, 1, 5], list(range(56)) + [57, 59, 56, 58], list(range(59, 3, -1)) + UP,
               [30, 59] + list(range(30)) + list(range(31, 59)), mixed_plan(60, 3)[30:] + mixed_plan(60, 3)[:30]]
 
+# What is no list of at most 59 integers, also where numbers cannot stand.
+NO_CODES = NO_LISTS + [
+    [None], [True], [False], [1, True], [-1, False], ["1"], [1, "1"], [[]], [[1]], [(1,)], [{}], [1, None, 5],
+    [9, None], [0, "1"], [None, 0], [[1], 1], [Meeting(1, 1)], [1, InvalidPlan("1")], deep(1, 18), (1,), (-1, 1),
+    tuple(P_CODE), "1", "-", {"0": 1}, [0] * 60, [1] * 60, [-1] * 60, [BIG] * 1000, [1] * 59 + [0], [1] * 58 + [None],
+    [1] * 59 + [True], [0] * 58 + [True]]
+
+# Codes that are wrong at a place.
+WRONG_CODES = [
+    ([0], 0), ([2], 0), ([-2], 0), ([BIG], 0), ([-BIG], 0), ([10 ** 60], 0), ([9, 9], 0), ([0, 0], 0), ([1, 0], 1),
+    ([1, 2], 1), ([1, -3], 1), ([-1, 3], 1), ([-1, -2], 1), ([-1, 0], 1), ([1, -1, -2, 4], 3), ([1, -1, -2, -2], 3),
+    ([1, -1, -2, 2, 0], 4), ([1, 2, 0], 1), ([1, 0, BIG], 1), ([1] * 58 + [2], 58), ([1] * 58 + [-60], 58),
+    ([-1] * 58 + [60], 58), ([-1] * 58 + [-2], 58), ([1] * 58 + [0], 58), ([0] * 59, 0), ([1] * 30 + [0] * 29, 30)]
+
 
 def assert_rejects_plans(case, call):
     """Assert that a call of one argument raises InvalidPlan for whatever is no plan."""

@@ -5,8 +5,8 @@ import unittest
 
 from desks import (
     BESIDE, BIG, CUT, LAYOUTS, ONE, P, SHIFTED, SHIFTED_BACK, STACKED, all_layouts, assert_interface, assert_rejects,
-    assert_rejects_layouts, assert_steady, four_meet, mixed, owners, scaled, slow_along, slow_lines, slow_ways, strip,
-    tower)
+    assert_rejects_layouts, assert_steady, four_meet, least_meeting, mixed, owners, scaled, slow_along, slow_lines,
+    slow_ways, strip, tower, turned)
 from paneplans import closing
 from paneplans.closing import alone_sides, closed_layout, closed_plan, middle_panes, open_sides
 from paneplans.errors import InvalidPane, InvalidWord, Meeting, NotAlone
@@ -20,11 +20,6 @@ WRONG_WORDS = ("", "Left", "left ", "above", "below", "upright", "level", "0", "
 WRONG_PANES = (-1, -5, 5, 60, BIG, -BIG)
 # A pane between two columns of three, whose ends stand across from one another.
 BETWEEN = [(0, 0, 1, 1), (0, 1, 1, 2), (0, 2, 1, 3), (1, 0, 3, 3), (3, 0, 4, 1), (3, 1, 4, 2), (3, 2, 4, 3)]
-
-
-def turned(layout):
-    """Return a layout with x and y exchanged."""
-    return [(y0, x0, y1, x1) for x0, y0, x1, y1 in layout]
 
 
 def slow_alone(layout, pane):
@@ -51,12 +46,6 @@ def slow_closed(layout, pane, side):
         panes.append((min(xs), min(ys), max(xs) + 1, max(ys) + 1))
         assert len(squares) == (max(xs) + 1 - min(xs)) * (max(ys) + 1 - min(ys))
     return panes
-
-
-def least_meeting(panes):
-    """Return the least point at which four panes have a corner, None for none."""
-    corners = [point for a, b, c, d in panes for point in ((a, b), (a, d), (c, b), (c, d))]
-    return min([point for point in corners if corners.count(point) == 4], default=None)
 
 
 def without(row, pane):

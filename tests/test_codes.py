@@ -2,27 +2,14 @@
 
 import unittest
 
-from desks import BIG, NO_LISTS, assert_interface, assert_rejects, assert_steady, deep, grown
+from desks import BIG, assert_interface, assert_rejects, assert_steady, grown
 from paneplans import codes
 from paneplans.codes import code_of, plan_of_code, pushed_plan, without_last
-from paneplans.errors import InvalidCode, InvalidNumber, InvalidPlan, Meeting
+from paneplans.errors import InvalidCode, InvalidNumber, InvalidPlan
 from paneplans.plans import borders_of, is_plan
 from paneplans.relations import plan_of
-from rows import P_CODE, P_PLAN, PLANS, all_codes, all_plans, assert_rejects_plans, mixed_plan, nested
-
-# What is no list of at most 59 integers, also where numbers cannot stand.
-NO_CODES = [thing for thing in NO_LISTS] + [
-    [None], [True], [False], [1, True], [-1, False], ["1"], [1, "1"], [[]], [[1]], [(1,)], [{}], [1, None, 5],
-    [9, None], [0, "1"], [None, 0], [[1], 1], [Meeting(1, 1)], [1, InvalidPlan("1")], deep(1, 18), (1,), (-1, 1),
-    tuple(P_CODE), "1", "-", {"0": 1}, [0] * 60, [1] * 60, [-1] * 60, [BIG] * 1000, [1] * 59 + [0], [1] * 58 + [None],
-    [1] * 59 + [True], [0] * 58 + [True]]
-
-# Codes that are wrong at a place.
-WRONG_CODES = [
-    ([0], 0), ([2], 0), ([-2], 0), ([BIG], 0), ([-BIG], 0), ([10 ** 60], 0), ([9, 9], 0), ([0, 0], 0), ([1, 0], 1),
-    ([1, 2], 1), ([1, -3], 1), ([-1, 3], 1), ([-1, -2], 1), ([-1, 0], 1), ([1, -1, -2, 4], 3), ([1, -1, -2, -2], 3),
-    ([1, -1, -2, 2, 0], 4), ([1, 2, 0], 1), ([1, 0, BIG], 1), ([1] * 58 + [2], 58), ([1] * 58 + [-60], 58),
-    ([-1] * 58 + [60], 58), ([-1] * 58 + [-2], 58), ([1] * 58 + [0], 58), ([0] * 59, 0), ([1] * 30 + [0] * 29, 30)]
+from rows import (
+    NO_CODES, P_CODE, P_PLAN, PLANS, WRONG_CODES, all_codes, all_plans, assert_rejects_plans, mixed_plan, nested)
 
 
 def borders(plan):
