@@ -31,7 +31,8 @@ def count_borders(number, right, lower):
     # With each pane more the two borders together get at most one pane more.
     if right < 1 or lower < 1 or right + lower > number + 1:
         return 0
-    return find_border_counts(number)[lower - 1][right - 1]
+    steps = number - 1
+    return sum([count_triples(east, steps - east, right, lower) for east in range(number)])
 
 
 def nth_plan(number, index):
@@ -81,22 +82,36 @@ def ways_to_touch(plan):
 def count_touching(number):
     """Return the sum of ways_to_touch over all plans of so many panes."""
     check_number(number, 1, MOST_TOUCHING)
-    return sum([find_ways_to_touch(find_plan_of_code(code)) for code in find_codes(number)])
+    states = {((), ()): 1}
+    for _ in range(number - 1):
+        states = grow_states(states)
+    return sum(list(states.values()))
 
 
-def find_border_counts(number):
-    """Return a table: how many plans have so many panes at the lower and at the right border.
+def count_triples(east, north, right, lower):
+    """Return how many triples of paths that do not meet stand for plans with these panes at the borders.
 
-    It is asked [lower - 1][right - 1].
+    Plans of n panes correspond to three paths of n - 1 steps, each with as many
+    steps east and north, side by side: the upper one ends with one step east
+    for each pane but one at the right border, the lower one with one step north
+    for each pane but one at the lower border.
     """
-    table = [[1]]
-    for many in range(1, number):
-        # What grows to so many panes at the borders had one less at one of them, and as many
-        # or more at the other one; x and y can be exchanged, so one table of sums does for both.
-        sums = [[0] * (many + 1)] + [list(accumulate(row[::-1]))[::-1] for row in table]
-        table = [[sums[right][lower] + sums[lower][right] for right in range(many + 1 - lower)]
-                 for lower in range(many + 1)]
-    return table
+    if east == 0 or north == 0:
+        return 1 if (right - 1, lower - 1) == (east, north) else 0
+    starts = [(0, 2), (1, 1), (2, 0)]
+    # Ahead of its last steps the upper path takes one step north, the lower one a step east;
+    # these are the points ahead of that, from which on nothing is left to choose.
+    ends = [(east - right + 1, north + 1), (east + 1, north + 1), (east + 1, north - lower + 1)]
+    upper, middle, last = [[count_paths(x - x0, y - y0) for x, y in ends] for x0, y0 in starts]
+    # Paths that meet can be exchanged from there on, so the determinant leaves only those that do not.
+    return (upper[0] * (middle[1] * last[2] - middle[2] * last[1])
+            - upper[1] * (middle[0] * last[2] - middle[2] * last[0])
+            + upper[2] * (middle[0] * last[1] - middle[1] * last[0]))
+
+
+def count_paths(east, north):
+    """Return how many paths have so many steps east and north."""
+    return comb(east + north, east) if east >= 0 and north >= 0 else 0
 
 
 def find_endings(number):
@@ -126,19 +141,6 @@ def find_numbers(lower, right):
     return list(range(-right, 0)) + list(range(1, lower + 1))
 
 
-def find_codes(number):
-    """Return all codes of plans of so many panes, ascending."""
-    found = [([], 1, 1)]
-    for _ in range(number - 1):
-        longer = []
-        for code, lower, right in found:
-            for step in find_numbers(lower, right):
-                grown_lower, grown_right = grow_borders(lower, right, step)
-                longer.append((code + [step], grown_lower, grown_right))
-        found = longer
-    return [code for code, _, _ in found]
-
-
 def find_ways_to_touch(plan):
     """Return how many different lists of touching pairs layouts with this plan have."""
     ways = 1
@@ -147,3 +149,33 @@ def find_ways_to_touch(plan):
         # those from the other side can come between them in any way.
         ways *= comb(len(ahead) + len(behind) - 2, len(ahead) - 1)
     return ways
+
+
+def grow_states(states):
+    """Return the states of plans with one pane more.
+
+    A state is what decides how the ways to touch grow with each pane: the tuples
+    (panes ahead, panes behind) of the upright segments that part the panes at
+    the lower border, and those of the level segments that part the panes at the
+    right border. For each state there is the sum of the ways to touch of all
+    plans that have it.
+    """
+    grown = {}
+    for (lower, right), ways in states.items():
+        for one, other, many in find_grown_states(lower, right, ways) + find_grown_states(right, lower, ways):
+            # With x and y exchanged there are as many ways.
+            key = (min(one, other), max(one, other))
+            grown[key] = grown.get(key, 0) + many
+    return grown
+
+
+def find_grown_states(border, other, ways):
+    """Return (border, other, ways) for each way to put a new pane behind the last ones of a border."""
+    many = len(border) + 1
+    grown = [((), other + ((many, 1),), ways)]
+    for place, (ahead, behind) in enumerate(border):
+        # The new pane lies behind this segment, too, and the other panes ahead of it stay at the border.
+        # comb(ahead + behind - 2, ahead - 1) becomes so many times as much when behind becomes one more.
+        more = ways * (ahead + behind - 1) // behind
+        grown.append((border[:place] + ((ahead, behind + 1),), other + ((many - place - 1, 1),), more))
+    return grown

@@ -55,8 +55,7 @@ def shows_pinwheel(layout, thing):
     segments = find_segments(layout)
     if not all(is_line(item) and item in segments for item in thing):
         return False
-    goals = find_goals(segments)
-    return all(second in goals[first] for first, second in zip(thing, thing[1:] + thing[:1]))
+    return all([ends_at(segment, other) for segment, other in zip(thing, thing[1:] + thing[:1])])
 
 
 def find_tree(plan):
@@ -113,15 +112,22 @@ def find_later_two(plan, first, second):
     return None
 
 
+def ends_at(segment, other):
+    """Tell whether a segment ends at another one."""
+    kind, place, low, high = segment
+    cross, at, first, last = other
+    return kind != cross and at in (low, high) and first < place < last
+
+
 def find_goals(segments):
     """Return a dict: for each segment those at which it ends."""
-    lines = {}
+    lines = {"level": {}, "upright": {}}
     for segment in segments:
-        lines.setdefault(segment[:2], []).append(segment)
+        lines[segment[0]].setdefault(segment[1], []).append(segment)
     goals = {}
     for segment in segments:
         kind, place, low, high = segment
-        cross = "upright" if kind == "level" else "level"
-        met = lines.get((cross, low), []) + lines.get((cross, high), [])
+        crossing = lines["upright" if kind == "level" else "level"]
+        met = crossing.get(low, []) + crossing.get(high, [])
         goals[segment] = [other for other in met if other[2] < place < other[3]]
     return goals

@@ -131,7 +131,22 @@ def find_desk(panes):
 
 def find_segments(layout):
     """Return the segments, ascending."""
-    return [segment for segment, _, _ in find_all_sides(layout)]
+    width, height = find_desk(layout)
+    # The panes on one side of a segment lie along the whole of it.
+    level = [(y1, x0, x1) for x0, _, x1, y1 in layout if y1 < height]
+    upright = [(x1, y0, y1) for _, y0, x1, y1 in layout if x1 < width]
+    return join_lines("level", level) + join_lines("upright", upright)
+
+
+def join_lines(kind, stretches):
+    """Return the segments of a kind, ascending, that stretches (place, first, last) along one side of them make."""
+    lines = []
+    for place, first, last in sorted(stretches):
+        if lines and lines[-1][1] == place and lines[-1][3] == first:
+            lines[-1] = (kind, place, lines[-1][2], last)
+        else:
+            lines.append((kind, place, first, last))
+    return lines
 
 
 def find_all_sides(layout):

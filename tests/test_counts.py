@@ -58,6 +58,17 @@ def layouts_of(plan):
     return found
 
 
+def next_borders(found, number):
+    """Return how many plans of so many panes have each pair of borders, from those with one pane less."""
+    below, beside = {}, {}
+    for many in range(number, 0, -1):
+        for other in range(1, number + 1):
+            # Put below: as many or more at the lower border became many. Put beside: likewise at the right border.
+            below[many, other] = below.get((many + 1, other), 0) + found.get((many, other - 1), 0)
+            beside[other, many] = beside.get((other, many + 1), 0) + found.get((other - 1, many), 0)
+    return {key: below[key] + beside[key] for key in below}
+
+
 class InterfaceTest(unittest.TestCase):
     def test_functions_and_arguments(self):
         assert_interface(self, counts, {
@@ -129,6 +140,15 @@ class CountBordersTest(unittest.TestCase):
         ends = [tuple(len(border) for border in borders_of(plan_of_code(code))[2:]) for code in all_codes(7)]
         for right, lower in itertools.product(range(9), repeat=2):
             self.assertEqual(count_borders(7, right, lower), ends.count((right, lower)))
+
+    def test_against_growing_borders(self):
+        # By R3 v and h become 1 to v and h + 1, or v + 1 and 1 to h.
+        found = {(1, 1): 1}
+        for number in range(1, 61):
+            if number < 13 or number in (29, 47, 60):
+                for lower, right in itertools.product(range(1, number + 2), repeat=2):
+                    self.assertEqual(count_borders(number, right, lower), found.get((lower, right), 0))
+            found = next_borders(found, number + 1)
 
     def test_sums(self):
         for number in (8, 25):
