@@ -4,9 +4,8 @@ Functions named find_.. rely on valid arguments.
 """
 
 from paneplans.checks import KINDS, check_pane, check_word
-from paneplans.errors import InvalidPlan, NotNeighbours
-from paneplans.layouts import MOST_PANES
-from paneplans.plans import check_plan, find_places, find_without
+from paneplans.errors import NotNeighbours
+from paneplans.plans import check_growing_plan, check_plan, find_places, find_without
 
 WAYS = ("sides", "ends", "corners")
 
@@ -32,11 +31,9 @@ def swung_plan(plan, pane):
 
 def split_plan(plan, pane, kind):
     """Return the plan in which a pane is two: the old one is left of, or above, the new one, the next."""
-    check_plan(plan)
+    check_growing_plan(plan)
     check_pane(pane, len(plan))
     check_word(kind, KINDS)
-    if len(plan) == MOST_PANES:
-        raise InvalidPlan("there is no room for one pane more")
     parts = [pane, pane + 1] if kind == "left" else [pane + 1, pane]
     place = plan.index(pane)
     renamed = [other if other <= pane else other + 1 for other in plan]

@@ -8,7 +8,7 @@ find_.. rely on a valid plan or code.
 from paneplans.checks import is_number
 from paneplans.errors import InvalidCode, InvalidNumber, InvalidPlan
 from paneplans.layouts import MOST_PANES
-from paneplans.plans import check_plan, find_plan_segments
+from paneplans.plans import check_growing_plan, check_plan, find_plan_segments
 
 
 def code_of(plan):
@@ -25,9 +25,7 @@ def plan_of_code(code):
 
 def pushed_plan(plan, number):
     """Return the plan that grows from a plan by this number."""
-    check_plan(plan)
-    if len(plan) == MOST_PANES:
-        raise InvalidPlan("there is no room for one pane more")
+    check_growing_plan(plan)
     longer = find_code(plan) + [number]
     if not is_number(number) or find_wrong_place(longer) is not None:
         raise InvalidNumber("this number cannot stand here")

@@ -57,6 +57,13 @@ def check_plan(plan):
         raise InvalidPlan("this is no plan")
 
 
+def check_growing_plan(plan):
+    """Raise InvalidPlan unless this is a plan with room for one pane more."""
+    check_plan(plan)
+    if len(plan) == MOST_PANES:
+        raise InvalidPlan("there is no room for one pane more")
+
+
 def is_row(thing):
     """Tell whether any object is a list of the numbers from 0 on, each once, as many as panes may be."""
     if not isinstance(thing, list) or not 1 <= len(thing) <= MOST_PANES:

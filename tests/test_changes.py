@@ -217,10 +217,16 @@ class SplitPlanTest(unittest.TestCase):
         for plan, kind in itertools.product((list(range(60)), mixed_plan(60, 3)), KINDS):
             for pane in (0, 30, 59):
                 assert_rejects(self, lambda: split_plan(plan, pane, kind), InvalidPlan)
-            # The arguments are checked first.
-            assert_rejects(self, lambda: split_plan(plan, 60, kind), InvalidPane)
-            assert_rejects(self, lambda: split_plan(plan, -1, "right"), InvalidPane)
-            assert_rejects(self, lambda: split_plan(plan, 0, "right"), InvalidWord)
+
+    def test_sixty_panes_and_other_wrong_arguments(self):
+        # A plan that is full is itself not valid, so it decides ahead of the pane and the kind.
+        for plan, pane in itertools.product((list(range(60)), mixed_plan(60, 3)), (0, 59) + WRONG_PANES):
+            for word in KINDS + WRONG_WORDS + WAYS:
+                assert_rejects(self, lambda: split_plan(plan, pane, word), InvalidPlan, repr((pane, word)))
+        for pane, word in itertools.product((59, 60, -1, BIG), KINDS + WRONG_WORDS):
+            assert_rejects(self, lambda: split_plan(list(range(59)), pane, word), InvalidPane, repr((pane, word)))
+        for word in WRONG_WORDS:
+            assert_rejects(self, lambda: split_plan(list(range(59)), 58, word), InvalidWord, word)
 
     def test_wrong_arguments(self):
         for pane, kind in ((0, "left"), (-1, "above"), (BIG, "right")):
